@@ -1,0 +1,14 @@
+"""Whole numbers, told from other things."""
+
+
+def is_whole(thing):
+    """Whether any thing is a whole number."""
+    # Python counts True and False among its ints; here they are none.
+    return isinstance(thing, int) and not isinstance(thing, bool)
+
+
+def are_wholes(thing, many):
+    """Whether any thing is a tuple of so many whole numbers."""
+    if not isinstance(thing, tuple) or len(thing) != many:
+        return False
+    return all([is_whole(each) for each in thing])
