@@ -4,6 +4,10 @@ from fanglue.errors import NoTurning
 from fanglue.fractions import upright
 from fanglue.wholes import are_wholes
 
+NOTHING = (1, 0, 0, 1)
+HALF = (0, -1, 1, 0)
+THIRD = (0, -1, 1, -1)
+
 
 def is_turning(thing):
     """Whether any thing is a turning."""
@@ -33,6 +37,19 @@ def contrary(one):
     """The turning that undoes this one."""
     a, b, c, d = one
     return turning(d, -b, -c, a)
+
+
+def power_of(one, power):
+    """The product of so many of this one; of its contrary, where the power is below 0."""
+    square = one if power >= 0 else contrary(one)
+    left = abs(power)
+    told = NOTHING
+    while left > 0:
+        if left % 2 == 1:
+            told = times(told, square)
+        square = times(square, square)
+        left //= 2
+    return told
 
 
 def led(one, fraction):

@@ -1,4 +1,4 @@
-"""Whole numbers, told from other things."""
+"""Whole numbers, and tuples of two tuples, told from other things."""
 
 
 def is_whole(thing):
@@ -12,3 +12,10 @@ def are_wholes(thing, many):
     if not isinstance(thing, tuple) or len(thing) != many:
         return False
     return all([is_whole(each) for each in thing])
+
+
+def are_two_tuples(thing):
+    """Whether any thing is a tuple of two tuples."""
+    if not isinstance(thing, tuple) or len(thing) != 2:
+        return False
+    return isinstance(thing[0], tuple) and isinstance(thing[1], tuple)

@@ -23,6 +23,11 @@ BARRED_WORDS = re.compile(
     r"\b(type|typing|typing_extensions|enum|Enum|IntEnum|StrEnum|Flag|IntFlag|Generic|Protocol|ABC|ABCMeta"
     r"|namedtuple|NamedTuple|TypedDict|TYPE_CHECKING|abstractmethod)\b|dataclass|overload|contextmanager")
 BARRED_NAMES = set("register mro elements open input version_info with_traceback add_note".split())
+PYTHON_METHODS = set("""
+    append clear copy count endswith extend find get index insert isalnum isalpha isdigit islower isspace isupper items
+    join keys ljust lower lstrip partition pop remove replace reverse rfind rjust rpartition rsplit rstrip setdefault
+    split splitlines startswith strip update upper values zfill bit_length
+""".split())
 PYTHON_NAMES = {name for name in dir(builtins) if name[0] != "_"}
 
 
@@ -146,6 +151,25 @@ def faults(text):
     return sorted(set(found))
 
 
+def own_methods_and_values(trees):
+    """The methods that the package's classes have, and the values that they give their objects."""
+    methods, values = [], set()
+    for tree in trees:
+        for node in ast.walk(tree):
+            if isinstance(node, ast.ClassDef):
+                methods += [row.name for row in node.body if isinstance(row, ast.FunctionDef)]
+            if isinstance(node, ast.Attribute) and isinstance(node.ctx, ast.Store):
+                values.add(node.attr)
+    return set(methods) - OWN_METHODS, values
+
+
+def asked_of_things(tree):
+    """The methods that the file calls, and the values that it asks."""
+    called = {node.func for node in ast.walk(tree) if isinstance(node, ast.Call)}
+    dotted = [node for node in ast.walk(tree) if isinstance(node, ast.Attribute)]
+    return {node.attr for node in dotted if node in called}, {node.attr for node in dotted if node not in called}
+
+
 def drawn_by(path):
     """The files from which this one draws, with the names drawn."""
     for row in ast.parse(path.read_text()).body:
@@ -167,6 +191,15 @@ class Files(unittest.TestCase):
         for path in self.paths():
             with self.subTest(path=path.name):
                 self.assertEqual(faults(path.read_text(encoding="utf-8")), [])
+
+    def test_methods_and_values(self):
+        trees = [ast.parse(path.read_text()) for path in self.paths()]
+        methods, values = own_methods_and_values(trees)
+        self.assertEqual(methods & values, set())
+        for tree in trees:
+            called, asked = asked_of_things(tree)
+            self.assertLessEqual(called, methods | PYTHON_METHODS)
+            self.assertLessEqual(asked, values)
 
     def test_names_are_drawn_from_the_file_that_defines_them(self):
         for path in self.paths():

@@ -6,12 +6,10 @@ import unittest
 from fanglue.errors import NoTurning
 from fanglue.fractions import are_neighbours, fraction, is_fraction
 from fanglue.turnings import (
-    contrary, edge, is_turning, led, times, turning, turning_between)
+    contrary, edge, is_turning, led, power_of, times, turning, turning_between)
+from reckoned import HALF, NOTHING, THIRD, product, undone, upright
 from things import NO_NUMBERS, OTHER_THINGS, Exact, whole_of
 
-NOTHING = (1, 0, 0, 1)
-HALF = (0, -1, 1, 0)
-THIRD = (0, -1, 1, -1)
 SMALL = range(-4, 5)
 BIG = whole_of(300, 11)
 
@@ -22,16 +20,6 @@ def quadruples():
 
 def determinant(a, b, c, d):
     return a * d - b * c
-
-
-def upright(a, b, c, d):
-    """Of four numbers of determinant 1 and their contraries those that are the turning."""
-    return (a, b, c, d) if (c, d) > (0, 0) else (-a, -b, -c, -d)
-
-
-def product(one, other):
-    (a, b, c, d), (e, f, g, h) = one, other
-    return upright(a * e + b * g, a * f + b * h, c * e + d * g, c * f + d * h)
 
 
 def small_turnings():
@@ -203,7 +191,7 @@ class Products(Exact, unittest.TestCase):
 class Contraries(Exact, unittest.TestCase):
     def test_as_reckoned(self):
         for a, b, c, d in small_turnings() + BIG_TURNINGS:
-            self.assert_told(contrary((a, b, c, d)), upright(d, -b, -c, a))
+            self.assert_told(contrary((a, b, c, d)), undone((a, b, c, d)))
 
     def test_by_hand(self):
         for one, due in [(NOTHING, NOTHING), (HALF, HALF), (THIRD, (1, -1, 1, 0)), ((1, 4, 0, 1), (1, -4, 0, 1)),
@@ -223,6 +211,19 @@ class Contraries(Exact, unittest.TestCase):
 
     def test_nothing_is_changed(self):
         self.assert_unchanged(contrary, (2, 1, 1, 1))
+
+
+class Powers(Exact, unittest.TestCase):
+    def test_as_reckoned(self):
+        for one in SOME[::5] + [NOTHING, HALF, THIRD, BIG_TURNINGS[-1]]:
+            for power in range(-9, 10):
+                due = product(*[one if power > 0 else undone(one)] * abs(power))
+                self.assert_told(power_of(one, power), due)
+
+    def test_many(self):
+        for power in [100, -100, 10 ** 12, 1 - 10 ** 12, 999983]:
+            self.assert_told(power_of((1, 1, 0, 1), power), (1, power, 0, 1))
+            self.assert_told(power_of(HALF, power), HALF if power % 2 else NOTHING)
 
 
 class Led(Exact, unittest.TestCase):
