@@ -1,6 +1,6 @@
 """Places: the tables of fans, and the fans of tables."""
 
-from fanglue.errors import NoTable
+from fanglue.errors import NoTable, TooMany
 from fanglue.fans import MOST_PLACES, NOUGHT, TOP, gap_turning
 from fanglue.turnings import HALF, NOTHING, THIRD, led, times
 from fanglue.wholes import are_two_tuples, are_wholes, is_whole
@@ -115,6 +115,28 @@ def numbered(halves, thirds, first):
     if len(met) < len(halves):
         raise NoTable("not all places are met")
     return renumbered(halves, thirds, met)
+
+
+def table_led(first, behind):
+    """The table of all that is led to from the first thing: `behind` tells of each thing the two behind s and behind r.
+
+    Refused with TooMany as soon as there are more than a table has.
+    """
+    met = [first]
+    numbers = {first: 0}
+    halves = []
+    thirds = []
+    while len(halves) < len(met):
+        half, third = behind(met[len(halves)])
+        for thing in (half, third):
+            if thing not in numbers:
+                numbers[thing] = len(met)
+                met.append(thing)
+        if len(met) > MOST_PLACES:
+            raise TooMany("there are more than sixty places")
+        halves.append(numbers[half])
+        thirds.append(numbers[third])
+    return (tuple(halves), tuple(thirds))
 
 
 def triangles_laid(table):

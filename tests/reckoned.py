@@ -1,5 +1,6 @@
 """Turnings, words, fans and tables made and reckoned here, without the program."""
 
+import itertools
 import random
 import re
 
@@ -17,6 +18,17 @@ FOUR = (((1, 0), (-1, 1), (0, 1), (1, 1)), (3, "half", "third", 0))
 FIVE = (((1, 0), (-1, 1), (0, 1), (1, 2), (1, 1)), (3, "third", "half", 0, "half"))
 PAIRS = (((1, 0), (-1, 1), (-1, 2), (0, 1), (1, 2), (1, 1)), (5, 4, 3, 2, 1, 0))
 FANS = [TWO, BOTH_THIRDS, THREE, FOUR, FIVE, PAIRS]
+
+# Tables by hand: of all turnings; of those with s evenly often; with r and q coming round; of those in both of these;
+# one of three places, numbered from each of them; and its core.
+ALL = ((0,), (0,))
+EVEN_HALVES = ((1, 0), (0, 1))
+ROUND_THIRDS = ((0, 1, 2), (1, 2, 0))
+SIX = ((1, 0, 3, 2, 5, 4), (2, 3, 4, 5, 0, 1))
+FROM_NOUGHT = ((0, 2, 1), (1, 2, 0))
+FROM_ONE = ((1, 0, 2), (1, 2, 0))
+FROM_TWO = ((1, 0, 2), (2, 0, 1))
+PLAIN_TWO = ((1, 0, 4, 5, 2, 3), (2, 3, 5, 4, 1, 0))
 
 
 def upright(a, b, c, d):
@@ -42,6 +54,16 @@ def undone(one):
 def spelled(word):
     """The product of a word's letters."""
     return product(*[LETTERS[letter] for letter in word])
+
+
+def letters_of(one):
+    """A word of the turning, by steps along 1/0 and half turns that make the lower number less."""
+    word = ""
+    while one[2] != 0:
+        step = one[0] // one[2]
+        one = product(HALF, (1, -step, 0, 1), one)
+        word += ("qs" * step if step > 0 else "sr" * -step) + "s"
+    return word + ("qs" * one[1] if one[1] > 0 else "sr" * -one[1])
 
 
 def from_behind(word):
@@ -218,11 +240,12 @@ def some_leads(many, seed):
 
 def reached(halves, thirds, first):
     """The places in the order in which they are met; None is passed over."""
-    met = [first]
+    met, known = [first], {first, None}
     for place in met:
         for behind in (halves[place], thirds[place]):
-            if behind is not None and behind not in met:
+            if behind not in known:
                 met.append(behind)
+                known.add(behind)
     return met
 
 
@@ -242,3 +265,67 @@ def walked(table, word):
         if place is None:
             return None
     return place
+
+
+def own_number(thing, many):
+    return type(thing) is int and 0 <= thing < many
+
+
+def is_own_table(thing):
+    """Whether a thing is a table, told over again from the document."""
+    if type(thing) is not tuple or [type(part) for part in thing] != [tuple, tuple]:
+        return False
+    halves, thirds = thing
+    many = len(halves)
+    if len(thirds) != many or not 1 <= many <= 60 or not all(own_number(each, many) for each in halves + thirds):
+        return False
+    if any(halves[halves[k]] != k or thirds[thirds[thirds[k]]] != k for k in range(many)):
+        return False
+    return told_anew(halves, thirds, 0) == thing
+
+
+def some_table(many, seed):
+    return told_anew(*some_leads(many, seed), 0)
+
+
+def some_tables(count):
+    """So many tables of each number of places from one to sixty."""
+    for many in range(1, 61):
+        for at in range(count):
+            halves, thirds = some_leads(many, 100 * many + at)
+            yield told_anew(halves, thirds, at % many)
+
+
+def all_leads(many):
+    """All pairs of exchanges by s and by r of so many places, whether all are met or not."""
+    orders = list(itertools.permutations(range(many)))
+    halves = [row for row in orders if all(row[row[k]] == k for k in range(many))]
+    thirds = [row for row in orders if all(row[row[row[k]]] == k for k in range(many))]
+    return itertools.product(halves, thirds)
+
+
+def small_tables(most):
+    for many in range(1, most + 1):
+        for leads in all_leads(many):
+            if told_anew(*leads, 0) == leads:
+                yield leads
+
+
+def telling_words(table):
+    """Words that lead from 0 to 0, all of whose products are the table's group."""
+    words = {0: ""}
+    for place in range(len(table[0])):
+        for letter, leads in zip("sr", table):
+            words.setdefault(leads[place], words[place] + letter)
+    return [words[place] + letter + from_behind(words[leads[place]])
+            for place in words for letter, leads in zip("sr", table)]
+
+
+def both(one, other):
+    """The table of the meet, out of all pairs of places; None, where it has more than sixty."""
+    many = len(other[0])
+    halves, thirds = [[many * here + there for here in leads for there in others]
+                      for leads, others in zip(one, other)]
+    if len(reached(halves, thirds, 0)) > 60:
+        return None
+    return told_anew(halves, thirds, 0)

@@ -9,9 +9,9 @@ from fanglue.fans import look
 from fanglue.places import fan_of, is_table, numbered, place_of, table_of, word_to
 from fanglue.words import word_of
 from reckoned import (
-    BOTH_THIRDS, FANS, FIVE, FOUR, HALF, NOT_SHORT, NOTHING, PAIRS, THREE, TWO, big_fans, glue_of, long_word, product,
-    reckoned_places, row_product, short_words, small_fans, some_fan, some_leads, some_row, spelled, told_anew, undone,
-    walked)
+    BOTH_THIRDS, FANS, FIVE, FOUR, HALF, NOT_SHORT, NOTHING, PAIRS, THREE, TWO, all_leads, big_fans, glue_of,
+    is_own_table, long_word, product, reckoned_places, row_product, short_words, small_fans, small_tables, some_fan,
+    some_leads, some_row, some_tables, spelled, told_anew, undone, walked)
 from things import NO_NUMBERS, OTHER_THINGS, Exact, whole_of
 
 BY_HAND = [
@@ -23,46 +23,6 @@ BY_HAND = [
     ((((1, 0), (-1, 1), (0, 1)), ("half", "half", "third")), ((1, 0, 2, 3), (0, 2, 3, 1))),
     ((((1, 0), (-1, 1), (0, 1)), (2, "third", 0)), ((1, 0, 3, 2), (2, 0, 1, 3))),
 ]
-
-
-def own_number(thing, many):
-    return type(thing) is int and 0 <= thing < many
-
-
-def is_own_table(thing):
-    """Whether a thing is a table, told over again from the document."""
-    if type(thing) is not tuple or [type(part) for part in thing] != [tuple, tuple]:
-        return False
-    halves, thirds = thing
-    many = len(halves)
-    if len(thirds) != many or not 1 <= many <= 60 or not all(own_number(each, many) for each in halves + thirds):
-        return False
-    if any(halves[halves[k]] != k or thirds[thirds[thirds[k]]] != k for k in range(many)):
-        return False
-    return told_anew(halves, thirds, 0) == thing
-
-
-def some_tables(count):
-    """So many tables of each number of places from one to sixty."""
-    for many in range(1, 61):
-        for at in range(count):
-            halves, thirds = some_leads(many, 100 * many + at)
-            yield told_anew(halves, thirds, at % many)
-
-
-def all_leads(many):
-    """All pairs of exchanges by s and by r of so many places, whether all are met or not."""
-    orders = list(itertools.permutations(range(many)))
-    halves = [row for row in orders if all(row[row[k]] == k for k in range(many))]
-    thirds = [row for row in orders if all(row[row[row[k]]] == k for k in range(many))]
-    return itertools.product(halves, thirds)
-
-
-def small_tables(most):
-    for many in range(1, most + 1):
-        for leads in all_leads(many):
-            if told_anew(*leads, 0) == leads:
-                yield leads
 
 
 def put(row, at, thing):
