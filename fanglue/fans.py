@@ -65,6 +65,15 @@ def look(thing):
         raise NoFan("places")
 
 
+def is_fan(thing):
+    """Whether any thing is a fan."""
+    try:
+        look(thing)
+    except NoFan:
+        return False
+    return True
+
+
 def gap_turning(fan, gap):
     """The turning that has the gap's edge as its edge."""
     fractions = fan[0]

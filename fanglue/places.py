@@ -203,9 +203,9 @@ def place_behind(table, place, letter):
     return behind
 
 
-def place_along(table, word):
-    """The place to which the letters lead from 0; None, where a place isn't led on."""
-    place = 0
+def place_along(table, word, first=0):
+    """The place to which the letters lead from the first one; None, where a place isn't led on."""
+    place = first
     for letter in word:
         if place is None:
             return None

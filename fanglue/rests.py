@@ -6,6 +6,7 @@ from fanglue.fractions import common_part
 from fanglue.places import table_led
 from fanglue.turnings import HALF, NOTHING, THIRD, contrary, times
 
+KINDS = ("plain", "upper", "first")
 MOST_NUMBER = 24
 
 
@@ -18,6 +19,11 @@ def rests_of(one, number):
     """The rests of the four numbers, the same for all turnings that are one by the rests."""
     a, b, c, d = one
     return least_multiple(((a, b), (c, d)), (1, -1), number)
+
+
+def is_nothing_by(one, number):
+    """Whether the turning is nothing by the rests of the number."""
+    return rests_of(one, number) == rests_of(NOTHING, number)
 
 
 def rows_behind(rows):

@@ -66,6 +66,20 @@ def letters_of(one):
     return word + ("qs" * one[1] if one[1] > 0 else "sr" * -one[1])
 
 
+def short_form(word):
+    """The short word with the same turning."""
+    letters = ""
+    for letter in word:
+        pair = letters[-1:] + letter
+        if pair in ("ss", "rq", "qr"):
+            letters = letters[:-1]
+        elif pair in ("rr", "qq"):
+            letters = letters[:-1] + ("q" if letter == "r" else "r")
+        else:
+            letters += letter
+    return letters
+
+
 def from_behind(word):
     """The letters from behind, r and q exchanged."""
     return "".join({"s": "s", "r": "q", "q": "r"}[letter] for letter in reversed(word))
