@@ -29,6 +29,8 @@ PYTHON_METHODS = set("""
     split splitlines startswith strip update upper values zfill bit_length
 """.split())
 PYTHON_NAMES = {name for name in dir(builtins) if name[0] != "_"}
+WALKED_AT_ONCE = {"zip", "enumerate", "reversed", "range"}
+WALKERS = {"list", "tuple", "dict", "sorted", "sum", "any", "all", "enumerate", "zip", "min", "max"}
 
 
 def text_faults(text):
@@ -142,12 +144,80 @@ def node_faults(node):
         yield from class_faults(node)
 
 
+def is_written(node, kind):
+    return isinstance(node, ast.Constant) and type(node.value) is kind
+
+
+def sign_faults(node):
+    """Signs and forms that this package does without altogether, or with written numbers alone."""
+    called = getattr(getattr(node, "func", None), "id", "")
+    if isinstance(node, (ast.Set, ast.SetComp)) or called in ("set", "frozenset"):
+        yield "L24"
+    if isinstance(node, ast.Starred):
+        yield "L7"
+    if isinstance(node, (ast.BinOp, ast.AugAssign)) and isinstance(node.op, ast.Pow):
+        power = node.right if isinstance(node, ast.BinOp) else node.value
+        if not is_written(power, int) or not 0 <= power.value <= 64:
+            yield "L27"
+    if isinstance(node, ast.Call) and node.keywords:
+        yield "L22"
+    if isinstance(node, (ast.AnnAssign, ast.JoinedStr)) or getattr(node, "annotation", None) is not None:
+        yield "L21"
+
+
+def error_faults(node):
+    """Errors are raised on the spot by their names, and taken by their names."""
+    if isinstance(node, ast.ExceptHandler):
+        kinds = node.type.elts if isinstance(node.type, ast.Tuple) else [node.type]
+        if not all(isinstance(kind, ast.Name) and kind.id not in PYTHON_NAMES for kind in kinds):
+            yield "L19"
+    if isinstance(node, ast.Raise) and not (isinstance(node.exc, ast.Call) and isinstance(node.exc.func, ast.Name)):
+        yield "L19"
+
+
+def walked_on_the_spot(tree):
+    """The calls that stand where they are walked at once."""
+    for node in ast.walk(tree):
+        if isinstance(node, (ast.For, ast.comprehension)):
+            yield node.iter
+        if isinstance(node, ast.Call) and isinstance(node.func, ast.Name) and node.func.id in WALKERS:
+            yield from node.args[:1]
+
+
+def walk_faults(tree):
+    at_once = set(walked_on_the_spot(tree))
+    for node in ast.walk(tree):
+        if isinstance(node, ast.Call) and node not in at_once:
+            name = getattr(node.func, "id", getattr(node.func, "attr", ""))
+            if name in WALKED_AT_ONCE or name in ("items", "keys", "values"):
+                yield "L23"
+
+
+def changed_things(row):
+    """The names of what a row changes: by an item that is given, or by a method that changes."""
+    for node in ast.walk(row):
+        if isinstance(node, ast.Subscript) and not isinstance(node.ctx, ast.Load):
+            yield ast.unparse(node.value)
+        if isinstance(node, ast.Call) and isinstance(node.func, ast.Attribute) and node.func.attr in (
+                "append", "clear", "extend", "insert", "pop", "remove", "reverse", "setdefault", "update", "sort"):
+            yield ast.unparse(node.func.value)
+
+
+def loop_faults(tree):
+    for node in ast.walk(tree):
+        if isinstance(node, ast.For):
+            walked = {ast.unparse(part) for part in ast.walk(node.iter) if isinstance(part, (ast.Name, ast.Attribute))}
+            if any(walked & set(changed_things(row)) for row in node.body):
+                yield "L23"
+
+
 def faults(text):
     """The rules that the file breaks, each once."""
     tree = ast.parse(text)
     found = list(text_faults(text)) + list(name_faults(tree)) + list(top_faults(tree))
+    found += list(walk_faults(tree)) + list(loop_faults(tree))
     for node in ast.walk(tree):
-        found.extend(node_faults(node))
+        found += list(node_faults(node)) + list(sign_faults(node)) + list(error_faults(node))
     return sorted(set(found))
 
 
@@ -230,12 +300,26 @@ class Looks(unittest.TestCase):
                 ("# " + "x" * 120 + "\n", "L10"), ("def f(_k):\n    return _k\n", "L12"), ("# \u00fc\n", "L14"),
                 ("K = 1\nK = 2\n", "L15"), ("def f(min):\n    return min\n", "L15"),
                 ("from fanglue.a import k\n\n\ndef f(k):\n    return k\n", "L15"), ("# a type\n", "L17"),
-                ("def f(p, q):\n    return p is q\n", "L20"), ("K = '5%'\n", "L27")]:
+                ("def f(p, q):\n    return p is q\n", "L20"), ("K = '5%'\n", "L27"),
+                ("def f(p):\n    return 2 ** p\n", "L27"), ("def f(p):\n    return 2 ** 65\n", "L27"),
+                ("def f(p):\n    return set(p)\n", "L24"), ("def f(p):\n    return {k for k in p}\n", "L24"),
+                ("def f(p):\n    return [*p]\n", "L7"), ("def f(p: int):\n    return p\n", "L21"),
+                ("def f(p):\n    return sorted(p, reverse=True)\n", "L22"),
+                ("def f(p):\n    try:\n        g(p)\n    except Exception:\n        return p\n", "L19"),
+                ("def f(p):\n    try:\n        g(p)\n    except:\n        return p\n", "L19"),
+                ("def f(p):\n    raise p\n", "L19"), ("def f(p):\n    k = zip(p, p)\n    return k\n", "L23"),
+                ("def f(p):\n    return len(reversed(p))\n", "L23"), ("def f(p):\n    k = p.items()\n", "L23"),
+                ("def f(p):\n    for k in p:\n        p.append(k)\n", "L23"),
+                ("def f(p):\n    for k in enumerate(p):\n        p[k] = 1\n", "L23")]:
             with self.subTest(text=text[:40]):
                 self.assertIn(rule, faults(text))
 
     def test_a_plain_file_has_none(self):
-        self.assertEqual(faults('"""A file."""\n\nK = 1\n\n\ndef f(p):\n    return p is None or p % 2 == K\n'), [])
+        for text in [
+                '"""A file."""\n\nK = 1\n\n\ndef f(p):\n    return p is None or p % 2 == K\n',
+                "def f(p):\n    return [k * 10 ** 64 for k in range(p)] + list(zip(p, p))\n",
+                "def f(p, d):\n    for k in enumerate(p):\n        d[k] = p[0]\n    return max(range(3))\n"]:
+            self.assertEqual(faults(text), [])
 
 
 if __name__ == "__main__":
